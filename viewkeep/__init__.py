@@ -1,0 +1,1 @@
+"""Viewkeep: views of tables, kept as the tables change."""
