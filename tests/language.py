@@ -19,6 +19,9 @@ METHODS = set("""append clear copy count endswith extend find get index insert i
     isupper items join keys ljust lower lstrip partition pop remove replace reverse rfind rjust rpartition rsplit
     rstrip setdefault split splitlines startswith strip update upper values zfill bit_length""".split())
 DUNDERS = {"__init__", "__eq__", "__repr__", "__str__", "__len__"}
+OF_PYTHON = {name for kind in (str, int, list, dict, set, frozenset, tuple, bytes, BaseException) for name in dir(kind)}
+METHODS_FREE = METHODS | DUNDERS | {"add", "discard"}
+VALUES_FREE = {"count", "index", "title", "find", "get", "join", "lower", "upper", "split", "strip", "copy", "add"}
 OUT = set("""register mro elements open input version_info with_traceback add_note f_back tb_next co_names f_locals
     f_globals f_code tb_frame gi_frame attrgetter breakpoint builtins compile copyright credits delattr dir eval exec
     exit gc getattr globals hasattr help id importlib license locals methodcaller os quit setattr super vars chr
@@ -77,6 +80,7 @@ def faults(files):
         for node in ast.walk(file.tree):
             line = getattr(node, "lineno", 0)
             found += [(rule, name, line) for rule in node_faults(node, file, methods)]
+        found += [(rule, name, line) for rule, line in value_faults(file, methods)]
     found += [("L16", name, 1) for name in read if reaches_itself(name, read)]
     return sorted(set(found))
 
@@ -84,6 +88,19 @@ def faults(files):
 def own_methods(read):
     return {node.name for file in read.values() for top in file.tree.body if isinstance(top, ast.ClassDef)
             for node in top.body if isinstance(node, ast.FunctionDef)}
+
+
+def value_faults(file, methods):
+    for node in ast.walk(file.tree):
+        if isinstance(node, ast.Attribute) and isinstance(node.ctx, ast.Store):
+            if node.attr in methods:
+                yield "L18", node.lineno
+            if node.attr in OF_PYTHON - VALUES_FREE:
+                yield "L26", node.lineno
+        if isinstance(node, ast.ClassDef):
+            for part in node.body:
+                if isinstance(part, ast.FunctionDef) and part.name in OF_PYTHON - METHODS_FREE:
+                    yield "L26", part.lineno
 
 
 def module_of(name):
