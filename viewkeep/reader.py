@@ -18,7 +18,7 @@ def read(text):
 
 def refuse_unless(fits):
     if not fits:
-        raise NoText("this is no text of a view")
+        raise NoText("this is no text that could be read")
 
 
 def tree_of(text):

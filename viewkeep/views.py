@@ -26,6 +26,16 @@ def views_in(V):
     return [V[1], V[2]]
 
 
+def names_in(V):
+    if V[0] == "name":
+        return [V[1]]
+    names = []
+    for view in views_in(V):
+        names.extend(names_in(view))
+    # The name of rounds is no table's or view's.
+    return [name for name in names if V[0] != "rounds" or name != V[1]]
+
+
 def besides_of(V):
     # For words other than name and rounds, whose views stand straight behind the word.
     return V[1 + len(views_in(V)):]
