@@ -167,6 +167,19 @@ class TestMaking(KeeperCase):
             self.assertEqual(other.plainly(name), keeper.ask(name))
         self.refused(Twice, keeper, "view", "z", "(rounds x 2 a x)")
 
+    def test_a_name_of_rounds_may_become_a_views_later(self):
+        keeper = Keeper()
+        keeper.table("a", 1)
+        keeper.table("b", 2)
+        keeper.view("v", "(rounds x 2 a (rounds y 1 a (pour x y)))")
+        keeper.view("x", "(once b)")
+        keeper.view("y", "(count x by #1)")
+        keeper.pour([("a", (1,), 2), ("b", (5, 6), 2)])
+        for name in "vxy":
+            self.assertEqual(keeper.plainly(name), keeper.ask(name))
+        self.assertEqual(keeper.ask("v"), [((1,), 1)])
+        self.assertEqual(again(keeper.kept()).plainly("v"), [((1,), 1)])
+
     def test_very_many_views_one_of_the_other(self):
         keeper = Keeper()
         keeper.table("a", 1)

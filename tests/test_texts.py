@@ -73,7 +73,8 @@ NONE = [
     "(once a)(once a)", "(once a) (once a)", "a b", "(pour a b", "(pour (once a b))", "(pour (once a b)",
     "(sieve a (same #0 #1)", "(cols a (#0))", "(cols a (gap))", "(cols a (1))", "(cols (a) #0)", "a)", "(a", ")(",
     "((a", "[once a]", "(count a (by))", "(first a (3) by order)", "(rounds (x) 2 a a)", "(first a 3 by (order))",
-    "(join a b (#0=#1))", "(sum a (#0) by)",
+    "(join a b (#0=#1))", "(sum a (#0) by)", "a) b", "a)) b", "(once a)) b", "(once a)) (once b)", "(pour a)) b)",
+    "(once a))) b c", "(pour (once a))) b)",
     # words and parts too many or too few
     "(once)", "(once a b)", "(sieve a)", "(sieve a (same #0 #1) (same #0 #1))", "(sieve (same #0 #1) a)", "(sieve)",
     "(cols a)", "(cols)", "(join a)", "(join)", "(join a #0=#0)", "(left a #0=#0 b)", "(pour a)", "(pour a b c)",
@@ -102,6 +103,7 @@ NONE = [
     "(join a b #0=#1=#2)", "(join a b =)", "(join a b #0=)", "(join a b =#0)", "(join a b #0-#1)", "(count a by 0)",
     "(count a by -0)", "(sum a 0 by)", "(first a #3 by order)", "(first a 3 by order 0)", "(first a 3 by order *0)",
     "(first a 3 by order +)", "(first a 3 by order --0)", "(first a 3 by order +-0)", "(first a 3 by order ++0)",
+    "(first a 3 by order +-1)", "(first a 3 by order --1)",
     "(rounds x #2 a a)", "(rounds x two a a)", "(once a;)", "(once 'a')", "\x00",
     # a 0 ahead of a number
     "(cols a 00)", "(cols a 01)", "(cols a -0)", "(cols a -01)", "(cols a #00)", "(cols a #01)", "(join a b #01=#0)",

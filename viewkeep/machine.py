@@ -65,7 +65,8 @@ class Machine:
         return k
 
     def set_up(self):
-        for node in self.net.nodes()[len(self.parts):]:
+        fresh = self.net.nodes()[len(self.parts):]
+        for node in fresh:
             if node[0] == "table":
                 self.parts.append(None)
                 self.node_rows.append({})

@@ -133,7 +133,6 @@ def group_of(word, rest):
 
 
 def first_of(word, rest):
-    refuse_unless(len(rest) >= 4)
     # A view may be called order, too: the word that parts the lists is looked for behind by alone.
     lists = rest[3:]
     refuse_unless("order" in lists)

@@ -17,8 +17,7 @@ def is_name(thing):
 
 
 def views_in(V):
-    if V[0] == "name":
-        return []
+    # For words other than name.
     if V[0] == "rounds":
         return [V[3], V[4]]
     if V[0] in OVER_ONE:
